@@ -1,0 +1,1 @@
+"""Payorder: orders in which each demand pays what it can."""

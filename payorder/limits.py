@@ -1,0 +1,9 @@
+"""The limits of the package."""
+
+MAX_DEMANDS = 10
+MAX_OFFERS = 10
+MAX_AMOUNT = 10 ** 12
+MAX_BLOCKS = 6
+MAX_OPERATIONS = 60
+MAX_BATCH = 20
+LOG_SIZE = 100

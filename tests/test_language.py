@@ -1,0 +1,148 @@
+"""The rules of LANGUAGE.md that can be read off the files of the package without a doubt."""
+
+import ast
+import builtins
+import re
+import unittest
+from pathlib import Path
+
+PACKAGE = Path(__file__).resolve().parent.parent / "payorder"
+FILES = sorted(PACKAGE.glob("*.py"))
+
+BARRED_WORDS = (
+    "type typing typing_extensions enum Enum IntEnum StrEnum Flag IntFlag Generic Protocol ABC ABCMeta namedtuple "
+    "NamedTuple TypedDict TYPE_CHECKING abstractmethod"
+).split()
+BARRED_PARTS = ("dataclass", "overload", "contextmanager")
+
+BUILTINS = (
+    "len range enumerate zip min max sum abs sorted reversed int str bool bytes list tuple dict set frozenset "
+    "isinstance ord repr any all divmod iter next super property staticmethod classmethod Exception ValueError "
+    "TypeError KeyError IndexError LookupError ZeroDivisionError ArithmeticError OverflowError RuntimeError "
+    "NotImplementedError AttributeError StopIteration NotImplemented"
+).split()
+
+BARRED_NODES = (
+    ast.Global, ast.AsyncFunctionDef, ast.AsyncFor, ast.AsyncWith, ast.Await, ast.Import, ast.Div, ast.MatMult,
+)
+
+SPECIAL_METHODS = re.compile(r"__(init|eq|repr|str|len|enter|exit|call|iter)__")
+
+
+def trees():
+    return [(path, ast.parse(path.read_text(encoding="utf-8"))) for path in FILES]
+
+
+def defined_names(tree):
+    """The names that a file binds itself at module level."""
+    names = [node.name for node in tree.body if isinstance(node, (ast.FunctionDef, ast.ClassDef))]
+    for node in tree.body:
+        if isinstance(node, ast.Assign):
+            names.extend([target.id for target in node.targets])
+    return names
+
+
+def bound_names(tree):
+    """All names that a file binds anywhere, except attributes."""
+    names = []
+    for node in ast.walk(tree):
+        if isinstance(node, (ast.FunctionDef, ast.ClassDef)):
+            names.append(node.name)
+        elif isinstance(node, ast.arg):
+            names.append(node.arg)
+        elif isinstance(node, ast.Name) and isinstance(node.ctx, ast.Store):
+            names.append(node.id)
+    return names
+
+
+class TestFiles(unittest.TestCase):
+    def test_the_folder_holds_only_plain_files(self):
+        found = [path for path in PACKAGE.iterdir() if path.name != "__pycache__"]
+        self.assertEqual(sorted(found), FILES)
+        self.assertIn(PACKAGE / "__init__.py", FILES)
+        for path in FILES:
+            self.assertRegex(path.name, r"^(__init__|__main__|[a-z][a-z0-9_]*)\.py$")
+
+    def test_size(self):
+        for path, tree in trees():
+            lines = path.read_text(encoding="utf-8").split("\n")
+            self.assertLessEqual(len(lines), 399, path)
+            self.assertLessEqual(max([len(line) for line in lines]), 120, path)
+            for node in ast.walk(tree):
+                if isinstance(node, ast.FunctionDef):
+                    self.assertLessEqual(node.end_lineno - node.lineno + 1, 40, node.name)
+
+    def test_characters(self):
+        for path in FILES:
+            for letter in path.read_text(encoding="utf-8"):
+                self.assertTrue(letter == "\n" or " " <= letter <= "~", (path, letter))
+
+    def test_barred_words(self):
+        for path in FILES:
+            text = path.read_text(encoding="utf-8")
+            for word in BARRED_WORDS:
+                self.assertIsNone(re.search(rf"\b{word}\b", text), (path, word))
+            for part in BARRED_PARTS:
+                self.assertNotIn(part, text, path)
+
+
+class TestCode(unittest.TestCase):
+    def test_imports(self):
+        defined = {f"payorder.{path.stem}": defined_names(tree) for path, tree in trees()}
+        for path, tree in trees():
+            for node in ast.walk(tree):
+                if isinstance(node, ast.ImportFrom):
+                    self.assertIn(node, tree.body, path)
+                    for alias in node.names:
+                        self.assertIn(alias.name, defined.get(node.module, ()), path)
+
+    def test_imports_do_not_go_in_circles(self):
+        wanted = {}
+        for path, tree in trees():
+            wanted[f"payorder.{path.stem}"] = [node.module for node in tree.body if isinstance(node, ast.ImportFrom)]
+        while wanted:
+            ready = [name for name, needs in wanted.items() if not [need for need in needs if need in wanted]]
+            self.assertTrue(ready, wanted)
+            wanted = {name: needs for name, needs in wanted.items() if name not in ready}
+
+    def test_module_level(self):
+        allowed = (ast.ImportFrom, ast.FunctionDef, ast.ClassDef, ast.Assign)
+        for path, tree in trees():
+            self.assertIsNotNone(ast.get_docstring(tree), path)
+            for node in tree.body[1:]:
+                self.assertIsInstance(node, allowed, path)
+
+    def test_names(self):
+        for path, tree in trees():
+            for name in bound_names(tree):
+                if SPECIAL_METHODS.fullmatch(name) is None:
+                    self.assertFalse(name.startswith("_"), (path, name))
+                    self.assertNotIn(name, dir(builtins), path)
+
+    def test_each_name_is_bound_once(self):
+        for path, tree in trees():
+            names = defined_names(tree)
+            for node in tree.body:
+                if isinstance(node, ast.ImportFrom):
+                    names.extend([alias.asname or alias.name for alias in node.names])
+            self.assertEqual(len(names), len(set(names)), path)
+
+    def test_builtins(self):
+        for path, tree in trees():
+            for node in ast.walk(tree):
+                if isinstance(node, ast.Name) and node.id in dir(builtins):
+                    self.assertIn(node.id, BUILTINS, path)
+
+    def test_barred_code(self):
+        for path, tree in trees():
+            for node in ast.walk(tree):
+                self.assertNotIsInstance(node, BARRED_NODES, path)
+                if isinstance(node, ast.Constant):
+                    self.assertNotIsInstance(node.value, (float, complex), path)
+                    self.assertFalse(isinstance(node.value, str) and "%" in node.value, path)
+                if isinstance(node, ast.Attribute) and node.attr.startswith("__"):
+                    self.assertEqual(node.attr, "__init__", path)
+
+
+if __name__ == "__main__":
+    unittest.main()
