@@ -1,5 +1,7 @@
 """Checks of plain values that several modules share."""
 
+from payorder.limits import MAX_AMOUNT
+
 
 def is_integer(value):
     """Return whether value is an integer."""
@@ -12,6 +14,11 @@ def is_number_below(value, count):
     return is_integer(value) and 0 <= value < count
 
 
+def is_tuple_of(value, length):
+    """Return whether value is a tuple of that length."""
+    return isinstance(value, tuple) and len(value) == length
+
+
 def is_ascending_below(value, count):
     """Return whether value is an ascending, possibly empty tuple of integers from 0 to count - 1."""
     if not isinstance(value, tuple):
@@ -22,3 +29,28 @@ def is_ascending_below(value, count):
             return False
         last = number
     return True
+
+
+def is_distinct_below(value, count):
+    """Return whether value is a tuple of integers from 0 to count - 1 without duplicates."""
+    if not isinstance(value, tuple):
+        return False
+    # The members are checked first, because not every value can be a member of a set.
+    if not all([is_number_below(number, count) for number in value]):
+        return False
+    return len(set(value)) == len(value)
+
+
+def is_order(value, demands):
+    """Return whether value is a tuple that contains each integer from 0 to demands - 1 once."""
+    return is_distinct_below(value, demands) and len(value) == demands
+
+
+def is_amount(value):
+    """Return whether value is an amount."""
+    return is_number_below(value, MAX_AMOUNT + 1)
+
+
+def are_amounts(value, count):
+    """Return whether value is a tuple of that many amounts."""
+    return is_tuple_of(value, count) and all([is_amount(amount) for amount in value])

@@ -1,13 +1,13 @@
 """Tables: which offers cover which demands."""
 
-from payorder.checks import is_ascending_below, is_integer, is_number_below
+from payorder.checks import is_ascending_below, is_integer, is_number_below, is_tuple_of
 from payorder.errors import NoDemand, NoDemands, NoOffer, NoOffers, TooMany
 from payorder.limits import MAX_DEMANDS, MAX_OFFERS
 
 
 def is_table(value):
     """Return whether value is a table."""
-    if not isinstance(value, tuple) or len(value) != 2:
+    if not is_tuple_of(value, 2):
         return False
     demands, offers = value
     if not is_integer(demands) or not 1 <= demands <= MAX_DEMANDS:
@@ -62,3 +62,19 @@ def transpose(table):
     if len(offers) == 0:
         raise NoOffers()
     return len(offers), tuple([covering_offers(table, demand) for demand in range(demands)])
+
+
+def covering_pairs(table, demand):
+    """Return the list of the pairs of offers, the lower number first, that both cover the demand."""
+    covering = covering_offers(table, demand)
+    return [(one, other) for other in covering for one in covering if one < other]
+
+
+def offer_masks(table):
+    """Return the list of the offers, each as the mask of the demands that it covers."""
+    return [mask_of(offer) for offer in table[1]]
+
+
+def mask_of(demands):
+    """Return the integer whose bits are 1 at the given demands, a set that is compared quickly."""
+    return sum([1 << demand for demand in demands])

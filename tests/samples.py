@@ -56,3 +56,37 @@ def leaves_arguments(call, *arguments):
     first = outcome(call, *arguments)
     second = outcome(call, *arguments)
     return same(arguments, before) and same(first, second)
+
+
+def other_kinds(value):
+    """Values like a correct one, in which one part is of another kind, so that none of them is correct."""
+    if isinstance(value, str):
+        return [None, True, value.upper(), value + " ", "", (value,), [value], 0]
+    if not isinstance(value, tuple):
+        return [None, True, False, str(value), "", (), (value,), [value], {value: value}, -1, -LONG, LONG]
+    found = [None, True, False, 0, str(value), list(value), dict(enumerate(value)), (value,), [value], {}]
+    for at, part in enumerate(value):
+        found.extend([value[:at] + (other,) + value[at + 1:] for other in other_kinds(part)])
+    return found
+
+
+def other_lengths(value):
+    """Tuples like a correct one that are too short or too long."""
+    return [value[:many] for many in range(len(value))] + [value + value[-1:], value + (None,), value + value]
+
+
+def not_orders(demands):
+    """Values that are no order of a table with that many demands."""
+    order = tuple(range(demands))
+    wrong = [*ODD_VALUES, (), 0, 1, LONG, (-1,) + order[1:], order[:-1] + (demands,)]
+    wrong.extend([value for value in NOT_ASCENDING if not same(sorted(value), list(order))])
+    wrong.extend(other_kinds(order))
+    wrong.extend(other_lengths(order))
+    if demands > 1:
+        wrong.extend([order[:-1] + (0,), (demands - 1,) + order[1:], (True,) * demands, list(order), set_apart(order)])
+    return wrong
+
+
+def set_apart(order):
+    """The order in two halves, each a tuple of its own."""
+    return order[:len(order) // 2], order[len(order) // 2:]

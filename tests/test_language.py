@@ -26,6 +26,16 @@ BARRED_NODES = (
     ast.Global, ast.AsyncFunctionDef, ast.AsyncFor, ast.AsyncWith, ast.Await, ast.Import, ast.Div, ast.MatMult,
 )
 
+METHODS = (
+    "append clear copy count endswith extend find get index insert isalnum isalpha isdigit islower isspace isupper "
+    "items join keys ljust lower lstrip partition pop remove replace reverse rfind rjust rpartition rsplit rstrip "
+    "setdefault split splitlines startswith strip update upper values zfill bit_length"
+).split()
+
+# L23: these are iterated where they stand.
+PASSING = ("range", "zip", "enumerate", "reversed")
+ITERATING = ("list", "tuple", "dict", "sorted", "sum", "any", "all", "enumerate", "zip", "min", "max")
+
 SPECIAL_METHODS = re.compile(r"__(init|eq|repr|str|len|enter|exit|call|iter)__")
 
 
@@ -53,6 +63,23 @@ def bound_names(tree):
         elif isinstance(node, ast.Name) and isinstance(node.ctx, ast.Store):
             names.append(node.id)
     return names
+
+
+def called_name(node):
+    return node.func.id if isinstance(node, ast.Call) and isinstance(node.func, ast.Name) else None
+
+
+def iterated(tree):
+    """The expressions that a loop, a comprehension or a builtin iterates on the spot, or that are tested with in."""
+    found = []
+    for node in ast.walk(tree):
+        if isinstance(node, (ast.For, ast.comprehension)):
+            found.append(node.iter)
+        elif called_name(node) in ITERATING:
+            found.extend(node.args)
+        elif isinstance(node, ast.Compare):
+            found.extend([side for sign, side in zip(node.ops, node.comparators) if isinstance(sign, (ast.In, ast.NotIn))])
+    return found
 
 
 class TestFiles(unittest.TestCase):
@@ -142,6 +169,44 @@ class TestCode(unittest.TestCase):
                     self.assertFalse(isinstance(node.value, str) and "%" in node.value, path)
                 if isinstance(node, ast.Attribute) and node.attr.startswith("__"):
                     self.assertEqual(node.attr, "__init__", path)
+
+    def test_iterated_at_once(self):
+        for path, tree in trees():
+            places = iterated(tree)
+            for node in ast.walk(tree):
+                if called_name(node) in PASSING:
+                    self.assertIn(node, places, (path, node.lineno))
+
+    def test_lists_instead_of_generators(self):
+        # L7 allows generator expressions only while no class has an __eq__; lists are always allowed.
+        for path, tree in trees():
+            for node in ast.walk(tree):
+                self.assertNotIsInstance(node, (ast.GeneratorExp, ast.Yield, ast.YieldFrom), path)
+
+    def test_is_only_with_constants(self):
+        for path, tree in trees():
+            for node in ast.walk(tree):
+                if isinstance(node, ast.Compare) and [sign for sign in node.ops if isinstance(sign, (ast.Is, ast.IsNot))]:
+                    for side in node.comparators:
+                        self.assertTrue(isinstance(side, ast.Constant) and side.value in (None, True, False), path)
+
+    def test_methods_of_builtin_values(self):
+        for path, tree in trees():
+            own = [node.name for node in ast.walk(tree) if isinstance(node, ast.FunctionDef)]
+            for node in ast.walk(tree):
+                if isinstance(node, ast.Call) and isinstance(node.func, ast.Attribute):
+                    self.assertIn(node.func.attr, METHODS + own, (path, node.lineno))
+
+    def test_no_name_hides_an_import_or_a_class(self):
+        for path, tree in trees():
+            taken = [alias.asname or alias.name for node in tree.body if isinstance(node, ast.ImportFrom)
+                     for alias in node.names]
+            taken.extend([node.name for node in tree.body if isinstance(node, ast.ClassDef)])
+            for node in ast.walk(tree):
+                if isinstance(node, ast.arg):
+                    self.assertNotIn(node.arg, taken, path)
+                elif isinstance(node, ast.Name) and isinstance(node.ctx, ast.Store):
+                    self.assertNotIn(node.id, taken, path)
 
 
 if __name__ == "__main__":

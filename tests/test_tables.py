@@ -1,14 +1,18 @@
 """Points 5 to 11: tables."""
 
-import inspect
 import itertools
 import unittest
 
 from payorder import tables
 from payorder.errors import NoDemand, NoDemands, NoOffer, NoOffers, TooMany
 from payorder.limits import MAX_DEMANDS, MAX_OFFERS
-from payorder.tables import add_offer, covering_offers, is_table, remove_offer, restrict_demands, transpose
-from samples import LONG, NOT_ASCENDING, ODD_VALUES, R, T, leaves_arguments, same
+from payorder.tables import (
+    add_offer, covering_offers, covering_pairs, is_table, mask_of, offer_masks, remove_offer, restrict_demands,
+    transpose,
+)
+from cases import Case
+from plain import small_tables
+from samples import LONG, NOT_ASCENDING, ODD_VALUES, R, T, leaves_arguments
 
 ALL = tuple(range(MAX_DEMANDS))
 BIG = (MAX_DEMANDS, tuple([tuple(ALL[:many]) for many in range(MAX_OFFERS - 1)]) + (ALL,))
@@ -20,19 +24,7 @@ NOT_NUMBERS = ODD_VALUES + NOT_ASCENDING + ((), (0,), (1,), (0, 1), -1, -2, LONG
 NOT_DEMANDS = ODD_VALUES + NOT_ASCENDING + (0, 1, -1, LONG)
 
 
-def small_tables():
-    """All tables of one to three demands and up to two offers."""
-    for demands in (1, 2, 3):
-        choices = [offer for many in range(demands + 1) for offer in itertools.combinations(range(demands), many)]
-        for many in range(3):
-            for offers in itertools.product(choices, repeat=many):
-                yield demands, offers
-
-
-class TableCase(unittest.TestCase):
-    def assert_same(self, found, expected):
-        self.assertTrue(same(found, expected), f"{found!r} is not {expected!r}")
-
+class TableCase(Case):
     def assert_carries(self, kind, attribute, call, table, argument):
         with self.subTest(repr(argument)[:60]):
             with self.assertRaises(kind) as context:
@@ -47,20 +39,16 @@ class TableCase(unittest.TestCase):
             self.assertIs(type(context.exception), NoDemands)
 
 
-class TestInterface(unittest.TestCase):
+class TestInterface(Case):
     def test_names_and_parameters(self):
-        expected = {
+        self.assert_interface(tables, {
             "is_table": ["value"],
             "covering_offers": ["table", "demand"],
             "restrict_demands": ["table", "demands"],
             "add_offer": ["table", "demands"],
             "remove_offer": ["table", "offer"],
             "transpose": ["table"],
-        }
-        for name, parameters in expected.items():
-            function = getattr(tables, name)
-            self.assertEqual(list(inspect.signature(function).parameters), parameters)
-            self.assertEqual(function.__module__, "payorder.tables")
+        })
 
     def test_arguments_by_name(self):
         self.assertIs(is_table(value=T), True)
@@ -327,6 +315,21 @@ class TestTranspose(TableCase):
     def test_arguments_stay(self):
         for table in TABLES:
             self.assertTrue(leaves_arguments(transpose, table))
+
+
+class TestHelpers(TableCase):
+    def test_covering_pairs(self):
+        self.assert_same(covering_pairs(R, 0), [(0, 2)])
+        self.assert_same(covering_pairs(T, 0), [])
+        for table in itertools.chain(TABLES, small_tables()):
+            for demand in range(table[0]):
+                expected = list(itertools.combinations(covering_offers(table, demand), 2))
+                self.assertEqual(sorted(covering_pairs(table, demand)), expected)
+
+    def test_masks(self):
+        self.assert_same(offer_masks(MIXED), [21, 0, 6, 21, 16])
+        self.assert_same(offer_masks(BARE), [])
+        self.assert_same([mask_of(()), mask_of((0,)), mask_of((1, 3)), mask_of(ALL)], [0, 1, 10, 1023])
 
 
 if __name__ == "__main__":
