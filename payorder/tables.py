@@ -53,7 +53,7 @@ def remove_offer(table, offer):
     demands, offers = table
     if not is_number_below(offer, len(offers)):
         raise NoOffer(offer)
-    return demands, offers[:offer] + offers[offer + 1:]
+    return demands, without_item(offers, offer)
 
 
 def transpose(table):
@@ -78,3 +78,13 @@ def offer_masks(table):
 def mask_of(demands):
     """Return the integer whose bits are 1 at the given demands, a set that is compared quickly."""
     return sum([1 << demand for demand in demands])
+
+
+def with_item(row, place, item):
+    """Return the tuple with another item at that place."""
+    return row[:place] + (item,) + row[place + 1:]
+
+
+def without_item(row, place):
+    """Return the tuple without the item at that place."""
+    return row[:place] + row[place + 1:]

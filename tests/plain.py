@@ -4,6 +4,7 @@ import itertools
 import random
 
 from payorder.limits import MAX_AMOUNT, MAX_DEMANDS, MAX_OFFERS
+from samples import R, T
 
 ALL = tuple(range(MAX_DEMANDS))
 
@@ -85,6 +86,30 @@ def payments_along(table, prices, penalties, order):
         while not is_collection(table, prices, penalties, payments):
             payments[demand] -= 1
     return tuple(payments)
+
+
+def covers(table):
+    """All choices whose offers cover all demands."""
+    found = []
+    for choice in subsets(range(len(table[1]))):
+        if all(any(demand in table[1][offer] for offer in choice) for demand in range(table[0])):
+            found.append(choice)
+    return found
+
+
+def separate_sets(table):
+    """All ascending tuples of demands no two of which are covered by one offer."""
+    found = []
+    for demands in subsets(range(table[0])):
+        pairs = itertools.combinations(demands, 2)
+        if not any(one in offer and other in offer for one, other in pairs for offer in table[1]):
+            found.append(demands)
+    return found
+
+
+def uncovered(table):
+    """The demands that no offer covers."""
+    return [demand for demand in range(table[0]) if not any(demand in offer for offer in table[1])]
 
 
 def sorted_offers(table, order):
@@ -194,3 +219,16 @@ def compared_tables():
     yield from random_tables(30, 5, 3)
     yield from random_tables(40, 5, 5)
     yield from random_tables(10, 6, 4)
+
+
+def data_for(tables, greatest):
+    """Each table with prices and penalties that are made up, but always the same."""
+    source = random.Random(7)
+    return [(table, *random_data(source, table, greatest)) for table in tables]
+
+
+def edge_cases():
+    """The edge tables and the largest ones, with the least and the greatest amounts."""
+    for table in (T, R) + EDGE_TABLES + LARGE_TABLES:
+        for prices, penalties in edge_data(table):
+            yield table, prices, penalties

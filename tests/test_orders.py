@@ -72,7 +72,6 @@ class TestInterface(Case):
                 self.assert_quick(nested_order_at, table, index)
             self.assert_quick(is_conflict, table, ALL, (0, 1, 2, 0, 1))
 
-
     def test_somewhat_beyond_the_limits(self):
         table = (MAX_DEMANDS + 1, ((0, 1), (MAX_DEMANDS,)) * 6)
         order = tuple(range(MAX_DEMANDS + 1))

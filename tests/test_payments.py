@@ -1,7 +1,6 @@
 """Points 27 to 34: choices and payments."""
 
 import itertools
-import random
 import unittest
 
 import plain
@@ -14,24 +13,11 @@ from payorder.payments import (
     cheapest_cost, choice_cost, choose_full, is_collection, is_solution, pay_along, solve,
 )
 from plain import (
-    ALL, EDGE_TABLES, FREE_TABLES, LARGE_TABLES, ORDERABLE_TABLES, RING_TABLES, compared_tables, edge_data, random_data,
+    ALL, EDGE_TABLES, FREE_TABLES, LARGE_TABLES, ORDERABLE_TABLES, RING_TABLES, compared_tables, data_for, edge_cases,
 )
 from samples import LONG, NOT_ASCENDING, ODD_VALUES, R, T, not_orders, other_kinds, other_lengths
 
 DATA = ((3, 4), (5, 1, 2))
-
-
-def data_for(tables, greatest):
-    """Each table with prices and penalties that are made up, but always the same."""
-    source = random.Random(7)
-    return [(table, *random_data(source, table, greatest)) for table in tables]
-
-
-def edge_cases():
-    """The edge tables and the largest ones, with the least and the greatest amounts."""
-    for table in (T, R) + EDGE_TABLES + LARGE_TABLES:
-        for prices, penalties in edge_data(table):
-            yield table, prices, penalties
 
 
 class TestInterface(Case):
@@ -66,7 +52,6 @@ class TestInterface(Case):
             self.assert_quick(is_solution, table, prices, penalties, (0, choice, (0,) * MAX_DEMANDS))
             for call in (pay_along, choose_full):
                 self.assert_quick(call, table, prices, penalties, ALL)
-
 
     def test_somewhat_beyond_the_limits(self):
         table, great = plain.cycle(MAX_DEMANDS + 1), MAX_AMOUNT + 1

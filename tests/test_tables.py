@@ -8,7 +8,7 @@ from payorder.errors import NoDemand, NoDemands, NoOffer, NoOffers, TooMany
 from payorder.limits import MAX_DEMANDS, MAX_OFFERS
 from payorder.tables import (
     add_offer, covering_offers, covering_pairs, is_table, mask_of, offer_masks, remove_offer, restrict_demands,
-    transpose,
+    transpose, with_item, without_item,
 )
 from cases import Case
 from plain import small_tables
@@ -330,6 +330,11 @@ class TestHelpers(TableCase):
         self.assert_same(offer_masks(MIXED), [21, 0, 6, 21, 16])
         self.assert_same(offer_masks(BARE), [])
         self.assert_same([mask_of(()), mask_of((0,)), mask_of((1, 3)), mask_of(ALL)], [0, 1, 10, 1023])
+
+    def test_one_item(self):
+        self.assert_same([with_item((1, 2, 3), place, 9) for place in range(3)], [(9, 2, 3), (1, 9, 3), (1, 2, 9)])
+        self.assert_same([without_item((1, 2, 3), place) for place in range(3)], [(2, 3), (1, 3), (1, 2)])
+        self.assert_same(without_item((5,), 0), ())
 
 
 if __name__ == "__main__":
