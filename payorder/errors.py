@@ -1,4 +1,7 @@
-"""The exceptions of the package."""
+"""The exceptions of the package.
+
+The message of each one is the name of its class, because logs and consoles show that name.
+"""
 
 
 class OrderError(ValueError):
@@ -11,9 +14,15 @@ class NoDemand(OrderError):
     def __init__(self, demand):
         self.demand = demand
 
+    def __str__(self):
+        return "NoDemand"
+
 
 class NoDemands(OrderError):
     """The argument is not a tuple of demands as it is asked for."""
+
+    def __str__(self):
+        return "NoDemands"
 
 
 class NoOffer(OrderError):
@@ -22,13 +31,22 @@ class NoOffer(OrderError):
     def __init__(self, offer):
         self.offer = offer
 
+    def __str__(self):
+        return "NoOffer"
+
 
 class NoOffers(OrderError):
     """The table has no offers."""
 
+    def __str__(self):
+        return "NoOffers"
+
 
 class NoOrder(OrderError):
     """The argument is not an order as it is asked for."""
+
+    def __str__(self):
+        return "NoOrder"
 
 
 class NotOrderable(OrderError):
@@ -37,6 +55,9 @@ class NotOrderable(OrderError):
     def __init__(self, ring):
         self.ring = ring
 
+    def __str__(self):
+        return "NotOrderable"
+
 
 class NoIndex(OrderError):
     """There is no nested order with that index."""
@@ -44,9 +65,15 @@ class NoIndex(OrderError):
     def __init__(self, index):
         self.index = index
 
+    def __str__(self):
+        return "NoIndex"
+
 
 class NoChoice(OrderError):
     """The argument is not a choice of the table."""
+
+    def __str__(self):
+        return "NoChoice"
 
 
 class NotCovered(OrderError):
@@ -55,9 +82,15 @@ class NotCovered(OrderError):
     def __init__(self, demand):
         self.demand = demand
 
+    def __str__(self):
+        return "NotCovered"
+
 
 class NoIntervals(OrderError):
     """The argument is not a tuple of intervals."""
+
+    def __str__(self):
+        return "NoIntervals"
 
 
 class NoVertex(OrderError):
@@ -66,9 +99,15 @@ class NoVertex(OrderError):
     def __init__(self, vertex):
         self.vertex = vertex
 
+    def __str__(self):
+        return "NoVertex"
+
 
 class NoBalls(OrderError):
     """The argument is not a tuple of balls of the tree."""
+
+    def __str__(self):
+        return "NoBalls"
 
 
 class NoPosition(OrderError):
@@ -77,9 +116,15 @@ class NoPosition(OrderError):
     def __init__(self, position):
         self.position = position
 
+    def __str__(self):
+        return "NoPosition"
+
 
 class NoPositions(OrderError):
     """The argument is not a tuple of demands of the line as it is asked for."""
+
+    def __str__(self):
+        return "NoPositions"
 
 
 class NoAmount(OrderError):
@@ -88,6 +133,9 @@ class NoAmount(OrderError):
     def __init__(self, amount):
         self.amount = amount
 
+    def __str__(self):
+        return "NoAmount"
+
 
 class TooMany(OrderError):
     """There are as many already as the limit allows."""
@@ -95,25 +143,43 @@ class TooMany(OrderError):
     def __init__(self, limit):
         self.limit = limit
 
+    def __str__(self):
+        return "TooMany"
+
 
 class LastDemand(OrderError):
     """The demand is the only one."""
+
+    def __str__(self):
+        return "LastDemand"
 
 
 class BadTable(OrderError):
     """The argument is not a table."""
 
+    def __str__(self):
+        return "BadTable"
+
 
 class BadPrices(OrderError):
     """The argument is not prices for the table."""
+
+    def __str__(self):
+        return "BadPrices"
 
 
 class BadPenalties(OrderError):
     """The argument is not penalties for the table."""
 
+    def __str__(self):
+        return "BadPenalties"
+
 
 class NothingToUndo(OrderError):
     """No operation is in effect."""
+
+    def __str__(self):
+        return "NothingToUndo"
 
 
 class NoMoment(OrderError):
@@ -122,9 +188,15 @@ class NoMoment(OrderError):
     def __init__(self, at):
         self.at = at
 
+    def __str__(self):
+        return "NoMoment"
+
 
 class NoOperations(OrderError):
     """The argument is not a batch of operations."""
+
+    def __str__(self):
+        return "NoOperations"
 
 
 class Failed(OrderError):
@@ -133,6 +205,9 @@ class Failed(OrderError):
     def __init__(self, index):
         self.index = index
 
+    def __str__(self):
+        return "Failed"
+
 
 class Blocked(OrderError):
     """The table that would result has no nested order; the ring is its certificate."""
@@ -140,9 +215,15 @@ class Blocked(OrderError):
     def __init__(self, ring):
         self.ring = ring
 
+    def __str__(self):
+        return "Blocked"
+
 
 class BadText(OrderError):
     """The argument is not a text of the format; line is the index of its first wrong line."""
 
     def __init__(self, line):
         self.line = line
+
+    def __str__(self):
+        return "BadText"

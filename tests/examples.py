@@ -311,4 +311,230 @@ raises NoBalls
 >>> farthest_first(((0, 1), (1, 5), (0, 2)))
 (2, 3, 1, 0)
 """,
+    53: """
+>>> from payorder.lines import is_line
+>>> L = (((0, 9, 2),), ((0, 4, 5), (3, 9, 100)))
+>>> is_line(L)
+True
+>>> is_line((((0, 9, 2), (9, 12, 1)), ()))
+False
+""",
+    54: """
+>>> from payorder.lines import line_payments
+>>> L = (((0, 9, 2),), ((0, 4, 5), (3, 9, 100)))
+>>> line_payments(L)
+((0, 1, 2), (2, 2, 1), (3, 4, 0), (5, 9, 2))
+>>> line_payments((((0, 4, 2), (5, 9, 2)), ()))
+((0, 9, 2),)
+""",
+    55: """
+>>> from payorder.lines import line_payment
+>>> L = (((0, 9, 2),), ((0, 4, 5), (3, 9, 100)))
+>>> line_payment(L, 2)
+1
+>>> line_payment(L, 10)
+raises NoPosition(10)
+""",
+    56: """
+>>> from payorder.lines import line_cost
+>>> L = (((0, 9, 2),), ((0, 4, 5), (3, 9, 100)))
+>>> line_cost(L)
+15
+""",
+    57: """
+>>> from payorder.lines import line_choice
+>>> L = (((0, 9, 2),), ((0, 4, 5), (3, 9, 100)))
+>>> line_choice(L)
+(0,)
+""",
+    58: """
+>>> from payorder.lines import line_table
+>>> L = (((0, 9, 2),), ((0, 4, 5), (3, 9, 100)))
+>>> line_table(L, (0, 3))
+((2, ((0, 1), (1,))), (5, 100), (2, 2))
+>>> line_table(L, (3, 0))
+raises NoPositions
+""",
+    60: """
+>>> from payorder.sessions import Session
+>>> T = (3, ((0, 1), (1, 2)))
+>>> s = Session(T, (3, 4), (5, 1, 2))
+>>> str(s)
+'3 demands, 2 offers, cost 5'
+>>> Session(T, (3,), (5, 1, 2))
+raises BadPrices
+""",
+    61: """
+>>> from payorder.sessions import GuardedSession
+>>> T = (3, ((0, 1), (1, 2)))
+>>> s = GuardedSession(T, (3, 4), (5, 1, 2))
+>>> s.add_offer(1, (0, 2))
+raises Blocked
+""",
+    62: """
+>>> from payorder.sessions import Session
+>>> T = (3, ((0, 1), (1, 2)))
+>>> s = Session(T, (3, 4), (5, 1, 2))
+>>> s.add_demand(9, (0,))
+>>> s.table()
+(4, ((0, 1, 3), (1, 2)))
+""",
+    63: """
+>>> from payorder.sessions import Session
+>>> T = (3, ((0, 1), (1, 2)))
+>>> s = Session(T, (3, 4), (5, 1, 2))
+>>> s.remove_demand(0)
+>>> (s.table(), s.penalties())
+((2, ((0,), (0, 1))), (1, 2))
+""",
+    64: """
+>>> from payorder.sessions import Session
+>>> T = (3, ((0, 1), (1, 2)))
+>>> R = (3, ((0, 1), (1, 2), (0, 2)))
+>>> s = Session(T, (3, 4), (5, 1, 2))
+>>> s.add_offer(1, (0, 2))
+>>> (s.table() == R, s.prices())
+(True, (3, 4, 1))
+""",
+    65: """
+>>> from payorder.sessions import Session
+>>> T = (3, ((0, 1), (1, 2)))
+>>> s = Session(T, (3, 4), (5, 1, 2))
+>>> s.remove_offer(0)
+>>> (s.table(), s.prices())
+((3, ((1, 2),)), (4,))
+""",
+    66: """
+>>> from payorder.sessions import Session
+>>> T = (3, ((0, 1), (1, 2)))
+>>> s = Session(T, (3, 4), (5, 1, 2))
+>>> s.set_price(0, -1)
+raises NoAmount(-1)
+""",
+    67: """
+>>> from payorder.sessions import Session
+>>> T = (3, ((0, 1), (1, 2)))
+>>> s = Session(T, (3, 4), (5, 1, 2))
+>>> s.set_penalty(0, 0)
+>>> s.cost()
+3
+""",
+    68: """
+>>> from payorder.sessions import Session
+>>> T = (3, ((0, 1), (1, 2)))
+>>> s = Session(T, (3, 4), (5, 1, 2))
+>>> s.undo()
+raises NothingToUndo
+""",
+    69: """
+>>> from payorder.sessions import Session
+>>> T = (3, ((0, 1), (1, 2)))
+>>> s = Session(T, (3, 4), (5, 1, 2))
+>>> s.apply_all([('set_price', 0, 9), ('remove_offer', 2)])
+raises Failed(1)
+>>> s = Session(T, (3, 4), (5, 1, 2))
+>>> s.apply_all([('set_price', 0, 9), ('remove_offer', 1)])
+>>> (len(s), s.prices(), s.cost())
+(2, (9,), 8)
+""",
+    70: """
+>>> from payorder.sessions import Session
+>>> T = (3, ((0, 1), (1, 2)))
+>>> s = Session(T, (3, 4), (5, 1, 2))
+>>> s.set_price(0, 9)
+>>> s.undo()
+>>> s.log()
+(('set_price', 'done'), ('undo', 'done'))
+""",
+    71: """
+>>> from payorder.sessions import Session
+>>> T = (3, ((0, 1), (1, 2)))
+>>> s = Session(T, (3, 4), (5, 1, 2))
+>>> s.set_price(0, 9)
+>>> (s.prices(), s.prices(at=0), s.penalties())
+((9, 4), (3, 4), (5, 1, 2))
+""",
+    72: """
+>>> from payorder.sessions import Session
+>>> T = (3, ((0, 1), (1, 2)))
+>>> Session(T, (3, 4), (5, 1, 2)).certificate()
+('order', (0, 1, 2))
+""",
+    73: """
+>>> from payorder.sessions import Session
+>>> R = (3, ((0, 1), (1, 2), (0, 2)))
+>>> Session(R, (1, 1, 1), (1, 1, 1)).cost()
+2
+""",
+    74: """
+>>> from payorder.sessions import Session
+>>> T = (3, ((0, 1), (1, 2)))
+>>> s = Session(T, (3, 4), (5, 1, 2))
+>>> (s.payments(), s.choice())
+((3, 0, 2), (0,))
+""",
+    75: """
+>>> from payorder.sessions import Session
+>>> T = (3, ((0, 1), (1, 2)))
+>>> s = Session(T, (3, 4), (5, 1, 2))
+>>> s.clone() == s
+True
+""",
+    78: """
+>>> from payorder.texts import format_data
+>>> T = (3, ((0, 1), (1, 2)))
+>>> format_data(T, (3, 4), (5, 1, 2))
+'demand 5\\ndemand 1\\ndemand 2\\noffer 3 0 1\\noffer 4 1 2\\n'
+""",
+    79: """
+>>> from payorder.texts import parse_data
+>>> parse_data('demand 7\\noffer 4\\n')
+((1, ((),)), (4,), (7,))
+>>> parse_data('demand 7\\noffer 4 1\\n')
+raises BadText(1)
+>>> parse_data('demand 7')
+raises BadText(0)
+>>> parse_data('')
+raises BadText(0)
+""",
+    80: """
+>>> from payorder.texts import format_order
+>>> format_order((2, 0, 1))
+'2>0>1'
+""",
+    81: """
+>>> from payorder.texts import parse_order
+>>> parse_order('2>0>1')
+(2, 0, 1)
+>>> parse_order('0>2')
+raises BadText(0)
+""",
+    82: """
+>>> from payorder.consoles import Console
+>>> from payorder.sessions import Session
+>>> T = (3, ((0, 1), (1, 2)))
+>>> s = Session(T, (3, 4), (5, 1, 2))
+>>> c = Console(s)
+>>> answer = c.execute('set_price 0 9')
+>>> (answer, s.prices())
+('done', (9, 4))
+""",
+    83: """
+>>> from payorder.consoles import Console
+>>> from payorder.sessions import Session
+>>> T = (3, ((0, 1), (1, 2)))
+>>> c = Console(Session(T, (3, 4), (5, 1, 2)))
+>>> (c.execute('order'), c.execute('choice'), c.execute('remove_offer 2'), c.execute('order 1'))
+('0>1>2', '0', 'error NoOffer', 'syntax error')
+""",
+    84: """
+>>> from payorder.consoles import Console
+>>> from payorder.sessions import Session
+>>> T = (3, ((0, 1), (1, 2)))
+>>> c = Console(Session(T, (3, 4), (5, 1, 2)))
+>>> one = c.execute('undo')
+>>> other = c.execute(None)
+>>> c.history()
+(('undo', 'error NothingToUndo'), (None, 'syntax error'))
+""",
 }

@@ -198,7 +198,7 @@ RING_TABLES = (
     (MAX_DEMANDS, cycle(9)[1] + (ALL,)),
     (MAX_DEMANDS, tuple([tuple([demand for demand in ALL if demand != at]) for at in ALL])),
     (MAX_DEMANDS, ((8, 9), (7, 9), (7, 8), ALL, ALL, (), (0, 1), (0, 1), (1, 2), (3, 4, 5))),
-    (MAX_DEMANDS, tuple([ALL[at:at + 5] + ALL[:max(0, at - 5)] for at in range(MAX_OFFERS)])),
+    (MAX_DEMANDS, tuple([ALL[:max(0, at - 5)] + ALL[at:at + 5] for at in range(MAX_OFFERS)])),
 )
 
 LARGE_TABLES = FREE_TABLES + ORDERABLE_TABLES + RING_TABLES

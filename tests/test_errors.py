@@ -81,6 +81,12 @@ class TestErrors(unittest.TestCase):
                 error = getattr(errors, name)()
                 self.assertEqual((vars(error), error.args), ({}, ()))
 
+    def test_the_message_is_the_name(self):
+        # Logs and consoles show it.
+        for name in ATTRIBUTES:
+            for argument in ARGUMENTS:
+                self.assertEqual(str(created(name, argument)), name)
+
     def test_each_can_be_raised_and_caught(self):
         for name in ATTRIBUTES:
             for caught in (getattr(errors, name), errors.OrderError, ValueError):

@@ -29,7 +29,7 @@ BARRED_NODES = (
 METHODS = (
     "append clear copy count endswith extend find get index insert isalnum isalpha isdigit islower isspace isupper "
     "items join keys ljust lower lstrip partition pop remove replace reverse rfind rjust rpartition rsplit rstrip "
-    "setdefault split splitlines startswith strip update upper values zfill bit_length"
+    "setdefault split splitlines startswith strip update upper values zfill bit_length isascii"
 ).split()
 
 # L23: these are iterated where they stand.
@@ -80,6 +80,22 @@ def iterated(tree):
         elif isinstance(node, ast.Compare):
             found.extend([side for sign, side in zip(node.ops, node.comparators) if isinstance(sign, (ast.In, ast.NotIn))])
     return found
+
+
+def classes():
+    return [node for path, tree in trees() for node in tree.body if isinstance(node, ast.ClassDef)]
+
+
+def error_class(found):
+    return [base.id for base in found.bases] in (["OrderError"], ["ValueError"])
+
+
+def methods_of(found):
+    return [node for node in found.body if isinstance(node, ast.FunctionDef)]
+
+
+def stored_attributes(found):
+    return [node.attr for node in ast.walk(found) if isinstance(node, ast.Attribute) and isinstance(node.ctx, ast.Store)]
 
 
 class TestFiles(unittest.TestCase):
@@ -191,11 +207,51 @@ class TestCode(unittest.TestCase):
                         self.assertTrue(isinstance(side, ast.Constant) and side.value in (None, True, False), path)
 
     def test_methods_of_builtin_values(self):
+        own = [method.name for found in classes() for method in methods_of(found)]
         for path, tree in trees():
-            own = [node.name for node in ast.walk(tree) if isinstance(node, ast.FunctionDef)]
             for node in ast.walk(tree):
                 if isinstance(node, ast.Call) and isinstance(node.func, ast.Attribute):
                     self.assertIn(node.func.attr, METHODS + own, (path, node.lineno))
+
+    def test_functions_of_a_table_are_called_by_a_name(self):
+        for path, tree in trees():
+            for node in ast.walk(tree):
+                if isinstance(node, ast.Call):
+                    self.assertIsInstance(node.func, (ast.Name, ast.Attribute), (path, node.lineno))
+
+    def test_values_at_module_level(self):
+        for path, tree in trees():
+            for node in tree.body:
+                if isinstance(node, ast.Assign):
+                    self.assertEqual([type(target) for target in node.targets], [ast.Name], path)
+                    for part in ast.walk(node.value):
+                        self.assertNotIsInstance(part, (ast.Call, ast.ListComp, ast.Set, ast.Lambda, ast.Attribute), path)
+
+    def test_defaults_are_plain(self):
+        for path, tree in trees():
+            for node in ast.walk(tree):
+                if isinstance(node, ast.arguments):
+                    for default in [*node.defaults, *node.kw_defaults]:
+                        self.assertIsInstance(default, (ast.Constant, ast.Name), path)
+                    self.assertEqual((node.posonlyargs, node.vararg, node.kwarg), ([], None, None), path)
+
+    def test_sets_are_sorted_or_counted_on_the_spot(self):
+        for path, tree in trees():
+            places = [argument for node in ast.walk(tree) if called_name(node) in ("sorted", "len") for argument in node.args]
+            for node in ast.walk(tree):
+                self.assertNotIsInstance(node, (ast.Set, ast.SetComp), path)
+                if called_name(node) == "set":
+                    self.assertIn(node, places, (path, node.lineno))
+
+    def test_own_errors_alone_are_caught(self):
+        own = [found.name for found in classes() if error_class(found)]
+        for path, tree in trees():
+            for node in ast.walk(tree):
+                if isinstance(node, ast.ExceptHandler):
+                    self.assertIn(node.type.id, own, (path, node.lineno))
+                    for use in ast.walk(node):
+                        if isinstance(use, ast.Raise) and use.exc is not None:
+                            self.assertIn(called_name(use.exc), own, (path, use.lineno))
 
     def test_no_name_hides_an_import_or_a_class(self):
         for path, tree in trees():
@@ -207,6 +263,70 @@ class TestCode(unittest.TestCase):
                     self.assertNotIn(node.arg, taken, path)
                 elif isinstance(node, ast.Name) and isinstance(node.ctx, ast.Store):
                     self.assertNotIn(node.id, taken, path)
+
+
+class TestClasses(unittest.TestCase):
+    def test_bodies(self):
+        for found in classes():
+            self.assertEqual(found.decorator_list, [], found.name)
+            self.assertIsNotNone(ast.get_docstring(found), found.name)
+            for node in found.body[1:]:
+                self.assertIsInstance(node, ast.FunctionDef, found.name)
+                self.assertEqual(node.decorator_list, [], found.name)
+            names = [method.name for method in methods_of(found)]
+            self.assertEqual(len(names), len(set(names)), found.name)
+
+    def test_no_name_is_a_method_and_an_attribute(self):
+        methods = {method.name for found in classes() for method in methods_of(found)}
+        attributes = {name for found in classes() for name in stored_attributes(found)}
+        self.assertEqual(methods & attributes, set())
+
+    def test_attributes_that_are_read_are_assigned(self):
+        known = {method.name for found in classes() for method in methods_of(found)} | set(METHODS)
+        known.update([name for found in classes() for name in stored_attributes(found)])
+        for path, tree in trees():
+            for node in ast.walk(tree):
+                if isinstance(node, ast.Attribute):
+                    self.assertIn(node.attr, known, (path, node.lineno))
+
+    def test_methods_with_two_underscores(self):
+        for found in classes():
+            for method in methods_of(found):
+                if method.name in ("__eq__", "__str__", "__len__", "__repr__"):
+                    rows = [row for row in method.body if not isinstance(row, ast.Expr)]
+                    self.assertEqual([type(row) for row in rows], [ast.Return], found.name)
+                if method.name == "__str__":
+                    self.assertIsInstance(method.body[-1].value, (ast.Constant, ast.JoinedStr), found.name)
+                if method.name == "__len__":
+                    self.assertEqual(called_name(method.body[-1].value), "len", found.name)
+
+    def test_super_calls_a_method_of_the_same_name(self):
+        for found in classes():
+            for method in methods_of(found):
+                calls = [node for node in ast.walk(method) if called_name(node) == "super"]
+                used = [node.func for node in ast.walk(method)
+                        if isinstance(node, ast.Call) and isinstance(node.func, ast.Attribute)
+                        and called_name(node.func.value) == "super"]
+                self.assertEqual([call.attr for call in used], [method.name] * len(calls), (found.name, method.name))
+                if method.name.startswith("__") and method.name != "__init__":
+                    self.assertEqual(calls, [], (found.name, method.name))
+
+    def test_classes_are_not_passed_on(self):
+        names = [found.name for found in classes()]
+        for path, tree in trees():
+            allowed = []
+            for node in ast.walk(tree):
+                if isinstance(node, ast.Call):
+                    allowed.append(node.func)
+                    if called_name(node) == "isinstance":
+                        allowed.append(node.args[1])
+                elif isinstance(node, ast.ClassDef):
+                    allowed.extend(node.bases)
+                elif isinstance(node, ast.ExceptHandler):
+                    allowed.append(node.type)
+            for node in ast.walk(tree):
+                if isinstance(node, ast.Name) and node.id in names:
+                    self.assertIn(node, allowed, (path, node.lineno))
 
 
 if __name__ == "__main__":

@@ -11,7 +11,7 @@ from payorder.tables import (
     transpose, with_item, without_item,
 )
 from cases import Case
-from plain import small_tables
+from plain import EDGE_TABLES, LARGE_TABLES, compared_tables, small_tables
 from samples import LONG, NOT_ASCENDING, ODD_VALUES, R, T, leaves_arguments
 
 ALL = tuple(range(MAX_DEMANDS))
@@ -61,7 +61,7 @@ class TestInterface(Case):
 
 class TestIsTable(TableCase):
     def test_tables(self):
-        for table in itertools.chain(TABLES, small_tables()):
+        for table in itertools.chain(TABLES, EDGE_TABLES, LARGE_TABLES, compared_tables()):
             with self.subTest(repr(table)):
                 self.assertIs(is_table(table), True)
 
