@@ -22,7 +22,8 @@ NOT_STRINGS = [value for value in ODD_VALUES + NOT_ASCENDING + ((), 0, 1, -1, LO
 # None of these is the decimal form of an integer that texts contain.
 NOT_NUMBERS = (
     "", "00", "01", "007", "-1", "-0", "+1", "+0", "1.0", "1e3", "a", "0x1", "1_0", "1,0", "x1", "1x", "None", "True",
-    "10000000000000", "99999999999999", "0" * 13, "0" * 14, "1" * 60, "1" * 4000, "\t1", "1\t", "(1)", "'1'", ">", "*",
+    "10000000000000", "99999999999999", "0" * 13, "0" * 14, "1" * 60, "1" * 4900, "\t1", "1\t", "(1)", "'1'", ">", "*",
+    "\u0663", "\u00b2",
 )
 NOT_AMOUNTS = NOT_NUMBERS + (str(MAX_AMOUNT + 1), "9" * 13, "2" + "0" * 12)
 
